@@ -1,0 +1,1 @@
+"""Playedall: rounds in which each plays each."""

@@ -1,0 +1,102 @@
+"""What several tests need: begun rounds, wrong values, and plain ways to count."""
+
+import itertools
+import random
+
+
+def games_of(players):
+    return list(itertools.combinations(range(players), 2))
+
+
+def all_rounds(players):
+    """Every round there is of so many players."""
+    choices = [((a, b), (b, a)) for a, b in games_of(players)]
+    return [list(pairs) for pairs in itertools.product(*choices)]
+
+
+def all_begun(players):
+    """Every begun round there is of so many players."""
+    choices = [(None, (a, b), (b, a)) for a, b in games_of(players)]
+    return [[pair for pair in pairs if pair] for pairs in itertools.product(*choices)]
+
+
+def some_begun(players, chance, played, lean):
+    """A begun round: `played` of 10 games are played, `lean` of 10 won by the lesser player."""
+    begun = []
+    for a, b in games_of(players):
+        if chance.randrange(10) < played:
+            begun.append((a, b) if chance.randrange(10) < lean else (b, a))
+    return begun
+
+
+def many_begun(players, times, seed):
+    chance = random.Random(seed)
+    for _ in range(times):
+        yield some_begun(players, chance, chance.randrange(11), chance.choice((0, 2, 5, 8, 10))), chance
+
+
+def completed(begun, players, chance):
+    """A round that keeps the begun games, the others won by chance."""
+    winners = {frozenset(pair): pair for pair in begun}
+    return [winners.get(frozenset(game)) or chance.choice((game, game[::-1])) for game in games_of(players)]
+
+
+def count_wins(pairs, players):
+    return [sum(1 for pair in pairs if pair[0] == player) for player in range(players)]
+
+
+def count_left(begun, some):
+    """How many games among these players are not begun."""
+    return sum(1 for game in itertools.combinations(sorted(some), 2)
+               if game not in begun and game[::-1] not in begun)
+
+
+def is_round(pairs, players):
+    return (isinstance(pairs, list) and all(isinstance(pair, tuple) and len(pair) == 2 for pair in pairs)
+            and [tuple(sorted(pair)) for pair in pairs] == games_of(players)
+            and all(isinstance(player, int) for pair in pairs for player in pair))
+
+
+def keeps(pairs, begun):
+    return all(pair in pairs for pair in begun)
+
+
+def rises(some):
+    return isinstance(some, list) and all(a < b for a, b in zip(some, some[1:]))
+
+
+class Unfriendly:
+    """Answers no question at all."""
+
+    def refuse(self, *anything):
+        raise RuntimeError("not to be asked")
+
+    __eq__ = __lt__ = __le__ = __gt__ = __ge__ = __len__ = __iter__ = __getitem__ = refuse
+    __bool__ = __index__ = __int__ = __hash__ = __repr__ = __str__ = __contains__ = refuse
+
+
+def round_itself():
+    knot = []
+    knot.append(knot)
+    return knot
+
+
+# Of every kind, and none of them a number; those that hash or compare badly too.
+NO_NUMBERS = [None, True, False, 1.0, 0.0, float("nan"), float("inf"), 1j, "", "1", b"1", (), (1,), [], [1], {}, {1: 1},
+              set(), frozenset(), range(3), object(), int, len, iter([]), Unfriendly(), round_itself()]
+
+NO_PLAYERS = NO_NUMBERS + [0, 11, -1, 12, 10 ** 5000, -10 ** 5000]
+
+NO_LISTS = [None, True, False, 0, 1, 2.0, "", "0>1", b"", (), ((0, 1),), {}, {(0, 1): True}, {(0, 1)}, frozenset(),
+            range(2), iter([(0, 1)]), object(), list, len, Unfriendly(), 10 ** 5000]
+
+# No begun rounds of three players.
+NO_BEGUN = NO_LISTS + [
+    [[0, 1]], [(0, 1), [0, 2]], ["01"], [{0: 1, 1: 0}], [{0, 1}], [None], [0], [0, 1], [Unfriendly()], round_itself(),
+    [()], [(0,)], [(0, 1, 2)], [(0, 1), (0, 2), (1, 2, 0)], [((0, 1),)],
+    [(0, 0)], [(1, 1)], [(0, 1), (2, 2)],
+    [(0, 3)], [(3, 0)], [(-1, 0)], [(0, -1)], [(0, 1), (0, 10 ** 5000)], [(-10 ** 5000, 1)],
+    [(0, 1), (0, 1)], [(0, 1), (1, 0)], [(1, 0), (0, 1)], [(0, 2), (1, 2), (0, 2)], [(0, 1), (0, 2), (2, 1), (1, 2)],
+    [(0, 2), (0, 1)], [(1, 2), (0, 2)], [(2, 1), (0, 1)], [(1, 2), (2, 0)], [(0, 1), (1, 2), (0, 2)],
+    [(0, True)], [(True, 0)], [(False, 1)], [(1, False)], [(0, 1), (True, 2)], [(0, 1), (0, 2), (2, True)],
+] + [[(0, value)] for value in NO_NUMBERS] + [[(value, 1)] for value in NO_NUMBERS]
