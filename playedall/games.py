@@ -44,9 +44,13 @@ def is_begun(begun, players):
     return True
 
 
-def check_begun(begun, players):
+def check_players(players):
     if not is_number(players, 1, MOST_PLAYERS):
         raise BadRound("players must be a number from 1 to 10")
+
+
+def check_begun(begun, players):
+    check_players(players)
     if not is_begun(begun, players):
         raise BadRound("this is no begun round of so many players")
 
@@ -56,6 +60,13 @@ def all_games(players):
     for lesser in range(players):
         games.extend([(lesser, greater) for greater in range(lesser + 1, players)])
     return games
+
+
+def check_round(games, players):
+    check_begun(games, players)
+    # No game comes twice in a begun round, so where there are as many as there can be, none is left.
+    if len(games) != len(all_games(players)):
+        raise BadRound("this round is only begun")
 
 
 def winners_of(begun):

@@ -41,6 +41,56 @@ def completed(begun, players, chance):
     return [winners.get(frozenset(game)) or chance.choice((game, game[::-1])) for game in games_of(players)]
 
 
+def by_order(order):
+    """The round in which each one won over all who come later in the order."""
+    at = {player: place for place, player in enumerate(order)}
+    return [(a, b) if at[a] < at[b] else (b, a) for a, b in games_of(len(order))]
+
+
+def shuffled(players, chance):
+    return chance.sample(range(players), players)
+
+
+def drawn(players, chance):
+    return completed([], players, chance)
+
+
+def with_upsets(players, chance):
+    """A round by an order, but for one game in four or so."""
+    return [pair[::-1] if chance.randrange(4) == 0 else pair for pair in by_order(shuffled(players, chance))]
+
+
+def in_parts(players, chance):
+    """A round that falls into parts, one ahead of the other; within a part by chance."""
+    order = shuffled(players, chance)
+    starts = {place for place in range(players) if chance.randrange(3) == 0}
+    part = {player: sum(1 for start in starts if start <= place) for place, player in enumerate(order)}
+    return [pair if part[pair[0]] <= part[pair[1]] else pair[::-1] for pair in drawn(players, chance)]
+
+
+def in_a_ring(players, chance):
+    """A round in which each one won over the next ones, as far as half the way round."""
+    order = shuffled(players, chance)
+    at = {player: place for place, player in enumerate(order)}
+    return [(a, b) if (at[b] - at[a]) % players <= players // 2 else (b, a) for a, b in games_of(players)]
+
+
+def some_rounds(players, times, seed):
+    """Rounds of every sort, the plain orders among them."""
+    chance = random.Random(seed)
+    rounds = [by_order(range(players)), by_order(range(players)[::-1])]
+    for _ in range(times):
+        rounds.append(by_order(shuffled(players, chance)))
+        rounds.extend(make(players, chance) for make in (with_upsets, drawn, in_parts, in_a_ring))
+    return rounds
+
+
+def threes_of(games, players):
+    """Every three that goes round, three times: told from each of its players."""
+    return [(a, b, c) for a, b, c in itertools.permutations(range(players), 3)
+            if (a, b) in games and (b, c) in games and (c, a) in games]
+
+
 def count_wins(pairs, players):
     return [sum(1 for pair in pairs if pair[0] == player) for player in range(players)]
 
@@ -100,3 +150,6 @@ NO_BEGUN = NO_LISTS + [
     [(0, 2), (0, 1)], [(1, 2), (0, 2)], [(2, 1), (0, 1)], [(1, 2), (2, 0)], [(0, 1), (1, 2), (0, 2)],
     [(0, True)], [(True, 0)], [(False, 1)], [(1, False)], [(0, 1), (True, 2)], [(0, 1), (0, 2), (2, True)],
 ] + [[(0, value)] for value in NO_NUMBERS] + [[(value, 1)] for value in NO_NUMBERS]
+
+# No rounds of three players: those that are only begun, too.
+NO_ROUNDS = NO_BEGUN + [each for each in all_begun(3) if len(each) < 3]
